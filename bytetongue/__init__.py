@@ -1,0 +1,1 @@
+"""Bytetongue: texts as bytes of several tongues, read and written in pieces."""
