@@ -1,8 +1,12 @@
-"""What several tests need: strange things, and refusals of just one class."""
+"""What several tests need: strange things, refusals of just one class, and what Python itself knows of tongues."""
 
-LAST_SIGN = 1114111
-BORDERS = (0, 127, 128, 255, 2047, 2048, 55295, 55296, 56319, 56320, 57343, 57344,
-           61183, 61184, 61439, 61440, 65279, 65533, 65535, 65536, 1114111)
+from functools import lru_cache
+
+from bytetongue.errors import NoSign
+
+BORDERS = (0, 127, 128, 255, 256, 2047, 2048, 4095, 4096, 55295, 55296, 56319, 56320, 57343, 57344,
+           61183, 61184, 61439, 61440, 65279, 65533, 65535, 65536, 66559, 66560, 262143, 262144,
+           524288, 1048575, 1048576, 1114111)
 
 
 class Equal:
@@ -23,8 +27,8 @@ def no_numbers():
 
 def not_signs():
     """Things that are no signs, numbers and others."""
-    numbers = [-1, -65, -10 ** 60, 55296, 56000, 56319, 56320, 57000, 57343, 61184, 61185, 61300, 61439,
-               1114112, 1114113, 2 ** 31, 10 ** 60, 10 ** 5000]
+    numbers = [-1, -65, -10 ** 60, 55296, 55297, 56000, 56318, 56319, 56320, 57000, 57342, 57343,
+               61184, 61185, 61300, 61438, 61439, 1114112, 1114113, 2 ** 31, 10 ** 60, 10 ** 5000]
     return numbers + no_numbers()
 
 
@@ -42,6 +46,19 @@ def near(numbers):
     return sorted({number + step for number in numbers for step in (-2, -1, 0, 1, 2)})
 
 
+@lru_cache(maxsize=None)
+def all_signs():
+    return tuple(number for number in range(1114112) if is_sign_number(number))
+
+
+@lru_cache(maxsize=None)
+def many_signs():
+    """All signs of one unit, those near each border, and some of the others."""
+    numbers = set(range(70000)) | set(near(BORDERS)) | set(near(range(65536, 1114112, 4096)))
+    numbers |= set(range(70000, 1114112, 1013))
+    return tuple(sorted(filter(is_sign_number, numbers)))
+
+
 def same_thing(one, other):
     """Whether a thing was told as it is: 1 is not True, and 65.0 is not 65."""
     return one is other or (type(one) is type(other) and one == other)
@@ -53,3 +70,148 @@ def refusal(case, kind, call, *handed, **named):
         call(*handed, **named)
     case.assertIs(type(caught.exception), kind)
     return caught.exception
+
+
+def check_no_sign(case, call, thing, at, *handed, **named):
+    """The call is refused with NoSign, for this thing at this place."""
+    error = refusal(case, NoSign, call, *handed, **named)
+    case.assertTrue(same_thing(error.sign, thing), (error.sign.__class__, thing.__class__))
+    case.assertTrue(same_thing(error.at, at), (error.at, at))
+
+
+class Known:
+    """A tongue of one page as Python's own codecs know it: rows are bytes here."""
+
+    def __init__(self, codec, unit):
+        self.codec = codec
+        self.unit = unit
+
+    def row(self, sign):
+        return chr(sign).encode(self.codec)
+
+    def sign(self, row):
+        """The sign whose row this is, or None."""
+        try:
+            letters = bytes(row).decode(self.codec)
+        except UnicodeDecodeError:
+            return None
+        return ord(letters) if len(letters) == 1 and is_sign_number(ord(letters)) else None
+
+    @lru_cache(maxsize=None)
+    def beginnings(self):
+        """All beginnings of signs' rows, odd bytes too, that are not whole."""
+        found = {b""}
+        for sign in all_signs():
+            row = self.row(sign)
+            for size in range(1, len(row)):
+                found.add(row[:size])
+        return found
+
+    @lru_cache(maxsize=None)
+    def begun(self):
+        """The beginnings of whole units, the shortest first."""
+        return sorted([row for row in self.beginnings() if len(row) % self.unit == 0], key=lambda row: (len(row), row))
+
+    @lru_cache(maxsize=None)
+    def courses(self):
+        """For each beginning of whole units a number, alike where two of them go alike."""
+        behind = {row: {} for row in self.begun()}
+        for sign in all_signs():
+            row = self.row(sign)
+            behind[row[:-self.unit]][row[-self.unit:]] = "sign"
+        numbers = {}
+        found = {}
+        for row in reversed(self.begun()):
+            found[row] = numbers.setdefault(frozenset(behind[row].items()), len(numbers))
+            if row:
+                behind[row[:-self.unit]][row[-self.unit:]] = found[row]
+        return found
+
+    def looked(self, row):
+        """What a begun row is."""
+        sign = self.sign(row)
+        if sign is not None:
+            return ("sign", sign, 0)
+        return ("more" if bytes(row) in self.beginnings() else "none", None, 0)
+
+
+LEAD = Known("utf-8", 1)
+HIGH = Known("utf-16-be", 2)
+LOW = Known("utf-16-le", 2)
+
+
+def check_spelled(case, tongue, known, signs):
+    for sign in signs:
+        told = tongue.spell(sign)
+        if told != (list(known.row(sign)), 0):
+            case.fail((sign, told))
+
+
+def check_looked(case, tongue, known, rows):
+    for row in rows:
+        told = tongue.look(list(row))
+        if told != known.looked(row):
+            case.fail((list(row), told))
+
+
+def check_filled(case, tongue, known, rows):
+    for row in rows:
+        told = tongue.fill(list(row))
+        if told is None:
+            case.assertIsNone(known.sign(row), list(row))
+            case.assertFalse(bytes(row) in known.beginnings(), list(row))
+            continue
+        case.assertIs(type(told), list)
+        case.assertIsNotNone(known.sign(bytes(row) + bytes(told)), (list(row), told))
+        if known.sign(row) is not None:
+            case.assertEqual(told, [], list(row))
+
+
+def check_spots(case, tongue, known):
+    told = tongue.spots()
+    case.assertIs(type(told), list)
+    courses = known.courses()
+    met = []
+    for spot in told:
+        case.assertIs(type(spot), tuple)
+        case.assertEqual(len(spot), 2)
+        case.assertEqual(spot[0], 0)
+        case.assertIs(type(spot[1]), list)
+        case.assertTrue(bytes(spot[1]) in courses, spot)
+        case.assertNotIn(spot, met)
+        met.append(spot)
+    case.assertEqual({courses[bytes(row)] for page, row in told}, set(courses.values()))
+
+
+def check_page_told_or_not(case, tongue, sign, rows):
+    case.assertEqual(tongue.spell(sign, 0), tongue.spell(sign))
+    case.assertEqual(tongue.spell(sign=sign, page=0), tongue.spell(sign))
+    for row in rows:
+        case.assertEqual(tongue.look(list(row), 0), tongue.look(list(row)))
+        case.assertEqual(tongue.look(begun=list(row), page=0), tongue.look(list(row)))
+        case.assertEqual(tongue.fill(list(row), 0), tongue.fill(list(row)))
+        case.assertEqual(tongue.fill(row=list(row), page=0), tongue.fill(list(row)))
+
+
+def spoil(things):
+    """Changes a told list through and through."""
+    for thing in things:
+        if isinstance(thing, (list, tuple)):
+            spoil(thing)
+    if isinstance(things, list):
+        things[:] = [-7, things[:], -8]
+
+
+def check_left_alone(case, tongue, signs, begun, rows):
+    """What is handed in stays, and what is told may be changed without any trace."""
+    asks = [lambda sign=sign: tongue.spell(sign) for sign in signs]
+    asks += [lambda row=row: tongue.fill(row) for row in rows] + [tongue.spots]
+    for ask in asks:
+        first = repr(ask())
+        spoil(ask() or [])
+        case.assertEqual(repr(ask()), first)
+    for call, handed in [(tongue.look, row) for row in begun] + [(tongue.fill, row) for row in rows]:
+        kept = list(handed)
+        first = repr(call(handed))
+        case.assertEqual(handed, kept)
+        case.assertEqual(repr(call(handed)), first)

@@ -4,7 +4,7 @@ import unittest
 
 from bytetongue.errors import TooGreat
 from bytetongue.parts import parted, together
-from helper import refusal
+from tests.helper import refusal
 
 ALL_BITS = range(1, 61)
 SOME_BITS = (1, 2, 6, 7, 8, 10, 31, 32, 33, 59, 60)

@@ -3,7 +3,7 @@
 import unittest
 
 from bytetongue.signs import is_byte, is_row, is_seen, is_sign, is_text
-from helper import BORDERS, is_seen_number, is_sign_number, near, no_numbers
+from tests.helper import BORDERS, is_seen_number, is_sign_number, near, no_numbers
 
 FAR = (-10 ** 5000, -10 ** 60, -2 ** 64, -65536, -256, 1114112, 2 ** 21, 2 ** 32, 2 ** 64, 10 ** 60, 10 ** 5000)
 SIGNS = (0, 65, 127, 128, 255, 256, 55295, 57344, 61183, 61440, 65279, 65533, 65535, 65536, 1114110, 1114111)
