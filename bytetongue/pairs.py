@@ -2,13 +2,12 @@
 
 from bytetongue.errors import NoOrder, NoSign
 from bytetongue.parts import parted, together
-from bytetongue.signs import FIRST_HEAD, FIRST_TAIL, is_head, is_sign, is_tail
+from bytetongue.signs import BYTE_BITS, FIRST_HEAD, FIRST_TAIL, is_head, is_sign, is_tail
 from bytetongue.tongues import Tongue
 
 # The least sign that has two units.
 FIRST_WIDE = 65536
 HALF_BITS = 10
-BYTE_BITS = 8
 
 # By order: if anything fills a row, one of these does. 220 is the high byte of a tail, and stands where a
 # tail is still wanted; with 0 for all other bytes a unit is a sign below 256, or keeps its high byte.

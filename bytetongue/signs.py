@@ -7,6 +7,7 @@ LAST_TAIL = 57343
 FIRST_SEEN = 61184
 LAST_SEEN = 61439
 LAST_BYTE = 255
+BYTE_BITS = 8
 
 
 def is_number(thing):

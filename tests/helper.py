@@ -32,6 +32,13 @@ def not_signs():
     return numbers + no_numbers()
 
 
+def not_orders():
+    """Things that are neither of the two words."""
+    words = ["", "High", "HIGH", "Low", "LOW", "hig", "highs", "lo", "high ", " low", "high low", "highlow", "w"]
+    others = [b"high", b"low", ["high"], ["low"], ("high",), ("high", "low"), {"high": 1}, {"low"}, 0, 1, -1, 10 ** 60]
+    return words + others + [thing for thing in no_numbers() if thing.__class__ is not str]
+
+
 def is_seen_number(number):
     """The document's words, told otherwise than the program tells them."""
     return number in range(0, 55296) or number in range(57344, 1114112)
@@ -82,23 +89,29 @@ def check_no_sign(case, call, thing, at, *handed, **named):
 class Known:
     """A tongue of one page as Python's own codecs know it: rows are bytes here."""
 
+    pages = (0,)
+
     def __init__(self, codec, unit):
         self.codec = codec
         self.unit = unit
 
-    def row(self, sign):
-        return chr(sign).encode(self.codec)
+    def spelled(self, sign, page=0):
+        """The sign's row and the page to which it goes."""
+        return (chr(sign).encode(self.codec), 0)
 
-    def sign(self, row):
-        """The sign whose row this is, or None."""
+    def row(self, sign):
+        return self.spelled(sign)[0]
+
+    def whole(self, row, page=0):
+        """The sign whose row this is and the page to which it goes, or None."""
         try:
             letters = bytes(row).decode(self.codec)
         except UnicodeDecodeError:
             return None
-        return ord(letters) if len(letters) == 1 and is_sign_number(ord(letters)) else None
+        return (ord(letters), 0) if len(letters) == 1 and is_sign_number(ord(letters)) else None
 
     @lru_cache(maxsize=None)
-    def beginnings(self):
+    def beginnings(self, page=0):
         """All beginnings of signs' rows, odd bytes too, that are not whole."""
         found = {b""}
         for sign in all_signs():
@@ -108,13 +121,13 @@ class Known:
         return found
 
     @lru_cache(maxsize=None)
-    def begun(self):
+    def begun(self, page=0):
         """The beginnings of whole units, the shortest first."""
-        return sorted([row for row in self.beginnings() if len(row) % self.unit == 0], key=lambda row: (len(row), row))
+        return by_size([row for row in self.beginnings() if len(row) % self.unit == 0])
 
     @lru_cache(maxsize=None)
     def courses(self):
-        """For each beginning of whole units a number, alike where two of them go alike."""
+        """For each spot a number, alike where two of them go alike."""
         behind = {row: {} for row in self.begun()}
         for sign in all_signs():
             row = self.row(sign)
@@ -122,48 +135,114 @@ class Known:
         numbers = {}
         found = {}
         for row in reversed(self.begun()):
-            found[row] = numbers.setdefault(frozenset(behind[row].items()), len(numbers))
+            found[0, row] = numbers.setdefault(frozenset(behind[row].items()), len(numbers))
             if row:
-                behind[row[:-self.unit]][row[-self.unit:]] = found[row]
+                behind[row[:-self.unit]][row[-self.unit:]] = found[0, row]
         return found
 
-    def looked(self, row):
+    def looked(self, row, page=0):
         """What a begun row is."""
-        sign = self.sign(row)
-        if sign is not None:
-            return ("sign", sign, 0)
-        return ("more" if bytes(row) in self.beginnings() else "none", None, 0)
+        found = self.whole(row, page)
+        if found is not None:
+            return ("sign",) + found
+        return ("more" if bytes(row) in self.beginnings(page) else "none", None, page)
+
+
+class Listed(Known):
+    """A tongue of unit 1 known by its rows: for each page a dict from the row, as bytes, to the sign and its page."""
+
+    def __init__(self, rows):
+        self.unit = 1
+        self.rows = rows
+        self.pages = tuple(range(len(rows)))
+
+    def spelled(self, sign, page=0):
+        for row, (other, goal) in self.rows[page].items():
+            if other == sign:
+                return (row, goal)
+        return None
+
+    def whole(self, row, page=0):
+        return self.rows[page].get(bytes(row))
+
+    def signs(self):
+        return sorted(sign for sign, goal in self.rows[0].values())
+
+    def most(self):
+        return max([len(row) for rows in self.rows for row in rows], default=0)
+
+    @lru_cache(maxsize=None)
+    def beginnings(self, page=0):
+        return {row[:size] for row in self.rows[page] for size in range(len(row))}
+
+    @lru_cache(maxsize=None)
+    def begun(self, page=0):
+        return by_size(self.beginnings(page))
+
+    def courses(self):
+        """For each spot its page and all that makes a sign's row of it, with the page to which that sign goes."""
+        found = {}
+        for page in self.pages:
+            for begun in self.beginnings(page):
+                behind = [(row[len(begun):], goal) for row, (sign, goal) in self.rows[page].items()
+                          if row.startswith(begun)]
+                found[page, begun] = (page, frozenset(behind))
+        return found
+
+
+def by_size(rows):
+    """The rows, the shortest first."""
+    return sorted(rows, key=lambda row: (len(row), row))
+
+
+def shift_known(first, second):
+    """The shift tongue of these two lists."""
+    lists = (first, second)
+    rows = []
+    for page, shift in ((0, 255), (1, 254)):
+        own = {bytes([place]): (sign, page) for place, sign in enumerate(lists[page])}
+        others = {bytes([shift, place]): (sign, 1 - page) for place, sign in enumerate(lists[1 - page])
+                  if sign not in lists[page]}
+        rows.append({**own, **others})
+    return Listed(rows)
+
+
+def table_known(rows):
+    """The table tongue of these tuples."""
+    return Listed([{bytes(row): (sign, 0) for sign, row in rows}])
 
 
 LEAD = Known("utf-8", 1)
 HIGH = Known("utf-16-be", 2)
 LOW = Known("utf-16-le", 2)
+NOTHING = Listed([{}])
 
 
-def check_spelled(case, tongue, known, signs):
+def check_spelled(case, tongue, known, signs, page=0):
     for sign in signs:
-        told = tongue.spell(sign)
-        if told != (list(known.row(sign)), 0):
-            case.fail((sign, told))
+        row, goal = known.spelled(sign, page)
+        told = tongue.spell(sign, page)
+        if told != (list(row), goal):
+            case.fail((sign, page, told))
 
 
-def check_looked(case, tongue, known, rows):
+def check_looked(case, tongue, known, rows, page=0):
     for row in rows:
-        told = tongue.look(list(row))
-        if told != known.looked(row):
-            case.fail((list(row), told))
+        told = tongue.look(list(row), page)
+        if told != known.looked(row, page):
+            case.fail((list(row), page, told))
 
 
-def check_filled(case, tongue, known, rows):
+def check_filled(case, tongue, known, rows, page=0):
     for row in rows:
-        told = tongue.fill(list(row))
+        told = tongue.fill(list(row), page)
         if told is None:
-            case.assertIsNone(known.sign(row), list(row))
-            case.assertFalse(bytes(row) in known.beginnings(), list(row))
+            case.assertIsNone(known.whole(row, page), list(row))
+            case.assertFalse(bytes(row) in known.beginnings(page), list(row))
             continue
         case.assertIs(type(told), list)
-        case.assertIsNotNone(known.sign(bytes(row) + bytes(told)), (list(row), told))
-        if known.sign(row) is not None:
+        case.assertIsNotNone(known.whole(bytes(row) + bytes(told), page), (list(row), page, told))
+        if known.whole(row, page) is not None:
             case.assertEqual(told, [], list(row))
 
 
@@ -175,12 +254,15 @@ def check_spots(case, tongue, known):
     for spot in told:
         case.assertIs(type(spot), tuple)
         case.assertEqual(len(spot), 2)
-        case.assertEqual(spot[0], 0)
         case.assertIs(type(spot[1]), list)
-        case.assertTrue(bytes(spot[1]) in courses, spot)
+        case.assertTrue((spot[0], bytes(spot[1])) in courses, spot)
         case.assertNotIn(spot, met)
         met.append(spot)
-    case.assertEqual({courses[bytes(row)] for page, row in told}, set(courses.values()))
+    case.assertEqual({courses[page, bytes(row)] for page, row in told}, set(courses.values()))
+
+
+def with_a_byte(beginnings):
+    return [list(row) + [byte] for row in beginnings for byte in range(256)]
 
 
 def check_page_told_or_not(case, tongue, sign, rows):
@@ -202,16 +284,21 @@ def spoil(things):
         things[:] = [-7, things[:], -8]
 
 
-def check_left_alone(case, tongue, signs, begun, rows):
-    """What is handed in stays, and what is told may be changed without any trace."""
-    asks = [lambda sign=sign: tongue.spell(sign) for sign in signs]
-    asks += [lambda row=row: tongue.fill(row) for row in rows] + [tongue.spots]
+def check_told_anew(case, asks):
+    """What each of these calls tells may be changed, and the same asked again is answered alike."""
     for ask in asks:
         first = repr(ask())
         spoil(ask() or [])
         case.assertEqual(repr(ask()), first)
+
+
+def check_left_alone(case, tongue, signs, begun, rows, page=0):
+    """What is handed in stays, and what is told may be changed without any trace."""
+    asks = [lambda sign=sign: tongue.spell(sign, page) for sign in signs]
+    asks += [lambda row=row: tongue.fill(row, page) for row in rows] + [tongue.spots]
+    check_told_anew(case, asks)
     for call, handed in [(tongue.look, row) for row in begun] + [(tongue.fill, row) for row in rows]:
         kept = list(handed)
-        first = repr(call(handed))
+        first = repr(call(handed, page))
         case.assertEqual(handed, kept)
-        case.assertEqual(repr(call(handed)), first)
+        case.assertEqual(repr(call(handed, page)), first)

@@ -4,7 +4,7 @@ import unittest
 
 from bytetongue.lead import LeadTongue
 from tests.helper import (LEAD, check_filled, check_left_alone, check_looked, check_no_sign, check_page_told_or_not,
-                          check_spelled, check_spots, many_signs, not_signs)
+                          check_spelled, check_spots, many_signs, not_signs, with_a_byte)
 
 # The point's own borders: behind the first byte stand the bytes from the one to the other.
 SECONDS = {224: (160, 191), 237: (128, 159), 238: (128, 187), 240: (144, 191), 244: (128, 143)}
@@ -18,10 +18,6 @@ WRITTEN = (
     (65536, [240, 144, 128, 128]), (262143, [240, 191, 191, 191]), (262144, [241, 128, 128, 128]),
     (1048575, [243, 191, 191, 191]), (1048576, [244, 128, 128, 128]), (1114111, [244, 143, 191, 191]),
 )
-
-
-def with_a_byte(beginnings):
-    return [list(row) + [byte] for row in beginnings for byte in range(256)]
 
 
 def long_beginnings():

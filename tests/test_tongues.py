@@ -4,6 +4,8 @@ import unittest
 
 from bytetongue.lead import LeadTongue
 from bytetongue.pairs import PairTongue
+from bytetongue.shifts import ShiftTongue
+from bytetongue.tables import TableTongue
 from bytetongue.tongues import Tongue
 from bytetongue.writing import write
 from tests.helper import BORDERS, check_left_alone, check_no_sign, check_page_told_or_not, near, not_signs
@@ -51,12 +53,16 @@ class ByItself(unittest.TestCase):
 
 class Standing(unittest.TestCase):
     def test_the_other_tongues_stand_under_it(self):
-        for kind in (LeadTongue, PairTongue):
-            self.assertTrue(issubclass(kind, Tongue))
-            self.assertIsInstance(kind(), Tongue)
+        for tongue in (LeadTongue(), PairTongue(), PairTongue("low"), ShiftTongue([65], [66]),
+                       TableTongue([(65, [1])])):
+            self.assertIsInstance(tongue, Tongue)
+        kinds = (LeadTongue, PairTongue, ShiftTongue, TableTongue)
+        for kind in kinds:
+            self.assertEqual([other for other in kinds if issubclass(kind, other)], [kind])
 
     def test_the_page_is_told_or_left_out(self):
-        for tongue, row in ((LeadTongue(), [65]), (PairTongue(), [0, 65]), (PairTongue("low"), [65, 0])):
+        for tongue, row in ((LeadTongue(), [65]), (PairTongue(), [0, 65]), (PairTongue("low"), [65, 0]),
+                            (ShiftTongue([64], [65]), [255]), (TableTongue([(65, [1, 2])]), [1])):
             check_page_told_or_not(self, tongue, 65, [row])
 
 
