@@ -3,10 +3,9 @@
 from bytetongue.errors import NoSign
 
 
-def write(tongue, text):
-    """The text's row in the tongue."""
+def write_from(tongue, text, page):
+    """The text's row where its first sign is written at the page, and the page to which its last one goes."""
     row = []
-    page = 0
     for at, sign in enumerate(text):
         try:
             spelled = tongue.spell(sign, page)
@@ -14,4 +13,9 @@ def write(tongue, text):
             raise NoSign(sign, at) from None
         row.extend(spelled[0])
         page = spelled[1]
-    return row
+    return (row, page)
+
+
+def write(tongue, text):
+    """The text's row in the tongue."""
+    return write_from(tongue, text, 0)[0]

@@ -1,8 +1,14 @@
-"""What several tests need: strange things, refusals of just one class, and what Python itself knows of tongues."""
+"""What several tests need: strange things, refusals of just one class, what is known of tongues, ways to cut."""
 
 from functools import lru_cache
+from itertools import combinations, product
 
 from bytetongue.errors import NoSign
+from bytetongue.lead import LeadTongue
+from bytetongue.pairs import PairTongue
+from bytetongue.shifts import ShiftTongue
+from bytetongue.tables import TableTongue
+from bytetongue.tongues import Tongue
 
 BORDERS = (0, 127, 128, 255, 256, 2047, 2048, 4095, 4096, 55295, 55296, 56319, 56320, 57343, 57344,
            61183, 61184, 61439, 61440, 65279, 65533, 65535, 65536, 66559, 66560, 262143, 262144,
@@ -302,3 +308,104 @@ def check_left_alone(case, tongue, signs, begun, rows, page=0):
         first = repr(call(handed, page))
         case.assertEqual(handed, kept)
         case.assertEqual(repr(call(handed, page)), first)
+
+
+def ways_to_cut(things):
+    """All ways to cut a list into pieces, each with and without pieces of nothing; the list of nothing: none to two."""
+    if not things:
+        return [[], [[]], [[], []]]
+    ways = []
+    for many in range(len(things)):
+        for places in combinations(range(1, len(things)), many):
+            borders = (0,) + places + (len(things),)
+            pieces = [things[first:last] for first, last in zip(borders, borders[1:])]
+            ways.append(pieces)
+            ways.append([[]] + [each for piece in pieces for each in (list(piece), [])])
+    return ways
+
+
+def few_ways_to_cut(things):
+    """The whole, its things one by one, and each way to cut it in two."""
+    ways = [[things], [[thing] for thing in things]]
+    return ways + [[things[:place], things[place:]] for place in range(len(things) + 1)]
+
+
+class Sample:
+    """A tongue, what is known of it, and some bytes of which its rows and rows that are none are made."""
+
+    def __init__(self, tongue, known, some, size):
+        self.tongue = tongue
+        self.known = known
+        self.some = some
+        self.size = size
+
+    def rows(self, size=None):
+        """All rows of these bytes up to a size."""
+        return [list(row) for many in range((size or self.size) + 1) for row in product(self.some, repeat=many)]
+
+    @lru_cache(maxsize=None)
+    def sign_rows(self, page):
+        """The rows of these bytes that are a sign's at the page."""
+        found = {}
+        for many in range(1, 7 if len(self.some) < 5 else 5):
+            for row in product(self.some, repeat=many):
+                if self.known.whole(bytes(row), page) is not None:
+                    found[bytes(row)] = self.known.whole(bytes(row), page)
+        return found
+
+    @lru_cache(maxsize=None)
+    def texts(self):
+        """Each row of these bytes, up to the size, that a text has: that text, and the page to which it goes."""
+        found = {b"": ((), 0)}
+        new = dict(found)
+        while new:
+            longer = {}
+            for row, (text, page) in new.items():
+                for more, (sign, goal) in self.sign_rows(page).items():
+                    if len(row) + len(more) <= self.size:
+                        longer[row + more] = (text + (sign,), goal)
+            found.update(longer)
+            new = longer
+        return found
+
+    def goes_on(self, row):
+        """Whether it is a beginning of some text's row: a text's row, and the beginning of a sign's row behind it."""
+        for size in range(len(row) + 1):
+            if bytes(row[:size]) in self.texts():
+                page = self.texts()[bytes(row[:size])][1]
+                if size == len(row) or bytes(row[size:]) in self.known.beginnings(page):
+                    return True
+        return False
+
+
+SHIFT_LISTS = (([65, 66], [66, 67]), ([65], [66]), ([], [65, 66]), ([65, 66], []), ([65, 66, 67], [66]),
+               ([66], [65, 66]), ([65, 66], [66, 65]), ([], []))
+TABLES = (
+    [(65, [1]), (66, [2, 3])], [(65, [1, 2]), (66, [2, 1])],
+    [(65, [1]), (66, [2, 1]), (67, [2, 2, 1]), (68, [2, 2, 2])],
+    [(65, [1, 2, 3, 1, 2, 3]), (66, [1, 2, 3, 1, 1]), (67, [3])], [],
+)
+
+
+@lru_cache(maxsize=None)
+def samples():
+    """Samples of each tongue."""
+    found = [Sample(LeadTongue(), LEAD, (65, 128, 144, 160, 191, 195, 225, 240), 4),
+             Sample(LeadTongue(), LEAD, (0, 143, 187, 188, 237, 238, 244), 4),
+             Sample(PairTongue(), HIGH, (0, 65, 216, 220, 239), 5),
+             Sample(PairTongue("low"), LOW, (0, 65, 219, 223, 239), 5),
+             Sample(Tongue(), NOTHING, (0, 65, 255), 3)]
+    found += [Sample(ShiftTongue(first, second), shift_known(first, second), (0, 1, 2, 254, 255), 5)
+              for first, second in SHIFT_LISTS]
+    found += [Sample(TableTongue(rows), table_known(rows), (1, 2, 3, 4), 6) for rows in TABLES]
+    return tuple(found)
+
+
+def known_written(known, text):
+    """The text's row, and the page to which it goes."""
+    row = b""
+    page = 0
+    for sign in text:
+        more, page = known.spelled(sign, page)
+        row += more
+    return (list(row), page)

@@ -35,8 +35,9 @@ def not_entries():
     """Things that are no tuples of a sign and a row of one to six bytes."""
     good = [1, 2, 3]
     pairs = [[65, good], (), (65,), (good,), (65, good, good), (65, good, 1), (good, 65), (65, 1), (65, (1, 2)),
-             (65, b"ab"), (65, "ab"), (65, None), (65, {1: 2}), (65, {1}), (65, range(3)), (65, []), (65, [1] * 7), (65, [1] * 2000),
-             (65, [[1]]), ((65, good),), [(65, good)], {65: good}, {"sign": 65, "row": good}, (65, 1, 2)]
+             (65, b"ab"), (65, "ab"), (65, None), (65, {1: 2}), (65, {1}), (65, range(3)), (65, []), (65, [1] * 7),
+             (65, [1] * 2000), (65, [[1]]), ((65, good),), [(65, good)], {65: good},
+             {"sign": 65, "row": good}, (65, 1, 2)]
     pairs += [(thing, good) for thing in not_signs()]
     pairs += [(65, [thing]) for thing in no_numbers() + [-1, 256, 10 ** 60, 61184]]
     pairs += [(65, [1, 2, 3, 4, 5, thing]) for thing in (None, True, -1, 256)]
