@@ -77,7 +77,11 @@ class Reader:
         return self.meet(len(self.begun), "strange")
 
     def meet(self, length, kind):
-        """The signs that come of a fault, which begins at the first held byte."""
-        self.met.append((self.place + self.many - len(self.begun), length, kind))
+        """The signs that come of a fault."""
+        self.note(length, kind)
         self.ended = True
         return []
+
+    def note(self, length, kind):
+        """Keeps a fault, which begins at the first held byte."""
+        self.met.append((self.place + self.many - len(self.begun), length, kind))

@@ -1,5 +1,6 @@
 """What several tests need: strange things, refusals of just one class, what is known of tongues, ways to cut."""
 
+from collections import namedtuple
 from functools import lru_cache
 from itertools import combinations, product
 
@@ -9,6 +10,7 @@ from bytetongue.pairs import PairTongue
 from bytetongue.shifts import ShiftTongue
 from bytetongue.tables import TableTongue
 from bytetongue.tongues import Tongue
+from bytetongue.ways import Leave, Put, See, Way
 
 BORDERS = (0, 127, 128, 255, 256, 2047, 2048, 4095, 4096, 55295, 55296, 56319, 56320, 57343, 57344,
            61183, 61184, 61439, 61440, 65279, 65533, 65535, 65536, 66559, 66560, 262143, 262144,
@@ -409,3 +411,90 @@ def known_written(known, text):
         more, page = known.spelled(sign, page)
         row += more
     return (list(row), page)
+
+
+# Behind so many bytes those from first to last were told as a sign, or passed as a fault of this kind.
+Met = namedtuple("Met", "size first last kind sign page")
+
+
+def known_course(known, row):
+    """All signs and faults that are met along a row by who goes on, but a short fault at its end."""
+    course = []
+    first = 0
+    page = 0
+    stop = known.unit
+    while stop <= len(row):
+        kind, sign, goal = known.looked(bytes(row[first:stop]), page)
+        last = stop
+        if kind == "more":
+            last = first
+        elif kind == "none":
+            kind = "broken" if stop - first > known.unit else "strange"
+            last = stop - known.unit if kind == "broken" else stop
+        if kind != "more":
+            page = goal
+            course.append(Met(stop, first, last, kind, sign, page))
+        first = last
+        if kind != "broken":
+            stop += known.unit
+    return course
+
+
+def with_short(course, row):
+    """The course of a row, and the short fault at its end, if there is one."""
+    first = course[-1].last if course else 0
+    page = course[-1].page if course else 0
+    if first == len(row):
+        return course
+    return course + [Met(len(row), first, len(row), "short", None, page)]
+
+
+# Each way, and what it tells of some bytes.
+WAYS = ((Leave(), lambda row: []), (Put(), lambda row: [65533]), (See(), lambda row: [61184 + byte for byte in row]),
+        (Put(66), lambda row: [66]), (Way(), lambda row: []))
+
+
+def known_told(course, row, tells):
+    """What a reader tells along a course, with a way of which it is known what it tells."""
+    told = []
+    for met in course:
+        told += [met.sign] if met.kind == "sign" else tells(row[met.first:met.last])
+    return told
+
+
+@lru_cache(maxsize=None)
+def small_codes():
+    """All lists of rows of the bytes 1 and 2, up to three bytes each, of which none begins another one."""
+
+    def codes(row):
+        """The lists of such rows, all of which begin so."""
+        if len(row) == 3:
+            return [[], [row]]
+        both = [one + other for one in codes(row + [1]) for other in codes(row + [2])]
+        return [[row]] + both if row else both
+
+    return codes([])
+
+
+@lru_cache(maxsize=None)
+def known_spots(known):
+    """All spots of a tongue known by its rows; of another one the first and the last of those that go alike."""
+    courses = known.courses()
+    if isinstance(known, Listed):
+        return tuple(courses)
+    spots = list(courses)
+    ends = {courses[spot]: spot for spot in reversed(spots)}, {courses[spot]: spot for spot in spots}
+    return tuple(dict.fromkeys([spot for some in ends for spot in some.values()]))
+
+
+def known_track(known, spot, row):
+    """The spots ahead of a row and behind each unit of it, begun at one; or None where the row does not go on."""
+    track = [spot]
+    for at in range(0, len(row), known.unit):
+        page, begun = track[-1]
+        begun += bytes(row[at:at + known.unit])
+        kind, sign, goal = known.looked(begun, page)
+        if kind == "none":
+            return None
+        track.append((goal, b"" if kind == "sign" else begun))
+    return track
