@@ -31,6 +31,13 @@ class Reader:
     def over(self):
         return self.ended
 
+    def ending(self):
+        """A row that ends the sign which is begun, if one is; None where there is no such row, and of what is over."""
+        if self.ended:
+            return None
+        # Nothing held ends a text, also where the tongue has no sign to go on with.
+        return self.tongue.fill(self.begun, self.at_page) if self.begun else []
+
     def feed(self, row):
         """The signs that come with a piece."""
         signs = []

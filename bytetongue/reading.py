@@ -19,8 +19,4 @@ def rest_of(tongue, row):
     """A row with which this one is a whole text's; None where no text's row begins so."""
     reader = Reader(tongue)
     reader.feed(row)
-    if reader.over():
-        return None
-    held = row[len(row) - reader.held():]
-    # Nothing held ends a text, also where the tongue could begin a further sign, or has none at all.
-    return tongue.fill(held, reader.page()) if held else []
+    return reader.ending()
