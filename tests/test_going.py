@@ -92,6 +92,12 @@ class Fed(Case):
                 turn = number + len(row) + sum(row)
                 self.check_cut(sample.tongue, sample.known, row, ways_to_cut(row), PLACES[turn % 5], turn // 5)
 
+    def test_the_shortest_rows_with_each_way(self):
+        for sample in samples():
+            for row in sample.rows(3):
+                for number in range(len(WAYS)):
+                    self.check_cut(sample.tongue, sample.known, row, ways_to_cut(row), PLACES[number], number)
+
     def test_longer_rows_cut_in_some_ways(self):
         for sample in samples():
             for number, row in enumerate(sample.rows()[::3]):
